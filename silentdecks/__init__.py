@@ -1,0 +1,1 @@
+"""Silentdecks: a common answer of secret bits by cards, and nothing beside."""
