@@ -153,7 +153,7 @@ class Read(unittest.TestCase):
                      "shuffle 0 1 2 3 / 0 1 2 3 to 0", "shuffle 1 0 2 3 / 0 1 2 3 to 0", "shuffle 0 1 to 0",
                      "shuffle 0 1 2 3 / 0 1 3 to 0", "turn 4 : 0 to 0", "turn 0 0 : 00 to 0", "turn 1 0 : 00 to 0",
                      "turn 0 : 00 to 0", "turn 0 1 : 0 to 0", "turn 0 : 1 to 0, 0 to 0", "turn 0 : 0 to 0, 0 to 0",
-                     "turn 0 1 2 3 4 : 00000 to 0", "tell 000", "tell 0101"):
+                     "turn 0 1 2 3 4 : 00000 to 0", "turn 0 : - to 0", "tell 000", "tell 0101"):
             self.bad_node(line)
         nine = " / ".join(("0 1 2 3", "0 1 3 2", "0 2 1 3", "0 2 3 1", "0 3 1 2", "0 3 2 1", "1 0 2 3",
                            "1 0 3 2", "1 2 0 3"))
