@@ -4,7 +4,7 @@ from math import gcd, lcm
 
 from silentdecks.errors import TooMany
 from silentdecks.kinds import are_bits, is_integer, is_number, is_tuple, rises
-from silentdecks.tables import first_place, next_ones, result_at, sight_chances, weights_by_sight
+from silentdecks.tables import first_place, leading_to, next_ones, result_at, sight_chances, weights_by_sight
 from silentdecks.ways import check_way, check_wish, has_tell, is_end
 
 MOST_PLACES = 300
@@ -123,21 +123,9 @@ def all_can_end(way, places, links):
 def one_can_end(way, places, links, one):
     """Tell whether one input can come to an end from each place where it can be."""
     there = [place[1][one] is not None for place in places]
-    back = [[] for _ in places]
-    for number, link in enumerate(links):
-        for after in link:
-            # An input that can be at a next one can be at the place ahead of it, too.
-            if there[after]:
-                back[after].append(number)
-    todo = [number for number, place in enumerate(places) if there[number] and is_end(way[2][place[0]])]
-    can_end = {number: True for number in todo}
-    while todo:
-        number = todo.pop()
-        for before in back[number]:
-            if before not in can_end:
-                can_end[before] = True
-                todo.append(before)
-    return len(can_end) == sum(there)
+    ends = [number for number, place in enumerate(places) if there[number] and is_end(way[2][place[0]])]
+    # An input that can be at a next one can be at the place ahead of it, too, so only places where it can be are found.
+    return len(leading_to(links, ends)) == sum(there)
 
 
 def is_place(way, value):

@@ -49,24 +49,23 @@ def entry_of(weights):
     return tuple([(row, lowest(weights[row], whole)) for row in sorted(weights)])
 
 
-def shuffled_entry(entry, orders):
-    """The entry behind a shuffle by these orders."""
-    if entry is None:
-        return None
-    weights = weights_of(entry)
+def shuffled_weights(weights, orders):
+    """Weights of rows behind a shuffle by these orders; their sum is as many times more as there are orders."""
     laid = {}
     for row, weight in weights.items():
         for order in orders:
             behind = row_in_order(row, order)
             laid[behind] = laid.get(behind, 0) + weight
-    return entry_of(laid)
+    return laid
 
 
-def weights_by_sight(entry, places):
-    """For each sight at places that an entry can come to, the rows with this sight and their weights."""
-    if entry is None:
-        return {}
-    weights = weights_of(entry)
+def shuffled_entry(entry, orders):
+    """The entry behind a shuffle by these orders."""
+    return None if entry is None else entry_of(shuffled_weights(weights_of(entry), orders))
+
+
+def parted_weights(weights, places):
+    """For each sight at places that rows come to, the rows with this sight and their weights."""
     parts = {}
     for row, weight in weights.items():
         sight = sight_at(row, places)
@@ -74,6 +73,11 @@ def weights_by_sight(entry, places):
             parts[sight] = {}
         parts[sight][row] = weight
     return parts
+
+
+def weights_by_sight(entry, places):
+    """For each sight at places that an entry can come to, the rows with this sight and their weights."""
+    return {} if entry is None else parted_weights(weights_of(entry), places)
 
 
 def sight_chances(parts):
@@ -101,6 +105,46 @@ def next_ones(way, place):
         return []
     if node[0] == "turn":
         return places_behind_turn(node, table)
-    # A move is a shuffle by one order.
-    orders = (node[1],) if node[0] == "move" else node[1]
-    return [(node[2], tuple([shuffled_entry(entry, orders) for entry in table]))]
+    return [(node[2], tuple([shuffled_entry(entry, orders_of(node)) for entry in table]))]
+
+
+def orders_of(node):
+    """The orders of a move or a shuffle; a move is a shuffle by one order."""
+    return (node[1],) if node[0] == "move" else node[1]
+
+
+def next_of(turn, sight):
+    """The next node behind a sight of a turn, None for a sight that loses the way."""
+    for known, onward in turn[2]:
+        if known == sight:
+            return onward
+    return None
+
+
+def states_behind(way, state):
+    """The pairs of node and row behind one, for each order of a shuffle; none behind an end or a lost turn."""
+    number, row = state
+    node = way[2][number]
+    if is_end(node):
+        return []
+    if node[0] == "turn":
+        onward = next_of(node, sight_at(row, node[1]))
+        return [] if onward is None else [(onward, row)]
+    return [(node[2], row_in_order(row, order)) for order in orders_of(node)]
+
+
+def leading_to(links, ends):
+    """The numbers, in a dict, from which one of the ends can be come to; links name those behind each number."""
+    back = [[] for _ in links]
+    for number, link in enumerate(links):
+        for after in link:
+            back[after].append(number)
+    todo = list(ends)
+    found = {number: True for number in todo}
+    while todo:
+        number = todo.pop()
+        for before in back[number]:
+            if before not in found:
+                found[before] = True
+                todo.append(before)
+    return found

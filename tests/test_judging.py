@@ -8,17 +8,11 @@ from silentdecks.judging import ends_surely, is_sound, shows_sound, sound_table
 from silentdecks.texts import sample
 from silentdecks.ways import is_way
 from tests import oracle
-from tests.builders import FLIP, LAY, ODD_VALUES, SAME, ZERO, moved_chain, one_bit, sharp
+from tests.builders import FLIP, LAY, ODD_VALUES, SAME, ZERO, look, moved_chain, one_bit, sharp, small_way, small_wish
 
 TELLS = (("tell", (0,)), ("tell", (1,)))
-AND = ((0,), (0,), (0,), (1,))
 XOR = ((0,), (1,), (1,), (0,))
 WHOLE, HALF, THIRD, TWO_THIRDS = (1, 1), (1, 2), (1, 3), (2, 3)
-
-
-def look(at, *onward):
-    """A turn of one place that goes on to these nodes by the sights 0 and 1, None for a sight without a node."""
-    return ("turn", (at,), tuple(((card,), k) for card, k in enumerate(onward) if k is not None))
 
 
 class JudgeCase(unittest.TestCase):
@@ -471,39 +465,13 @@ class Limits(unittest.TestCase):
 class Oracle(unittest.TestCase):
     """Many small ways, judged by states instead of tables."""
 
-    def node(self, dice, cards, nodes, tells):
-        kind = dice.choice(("move", "shuffle", "shuffle", "turn", "turn", "end", "end"))
-        if kind == "end" and tells:
-            return ("tell", (dice.randrange(2),))
-        if kind == "end":
-            return ("lay", (tuple(dice.sample(range(cards), 2)),)) if dice.random() < 0.4 else LAY
-        if kind == "turn":
-            places = tuple(sorted(dice.sample(range(cards), dice.choice((1, 1, 1, 2)))))
-            sights = [tuple((k >> at) & 1 for at in range(len(places))) for k in range(1 << len(places))]
-            kept = sorted(sight for sight in sights if dice.random() < 0.95)
-            return ("turn", places, tuple((sight, dice.randrange(nodes)) for sight in kept or sights[:1]))
-        orders = [tuple(dice.sample(range(cards), cards)) for _ in range(dice.choice((1, 1, 2)))]
-        if dice.random() < 0.6 and cards > 2:
-            orders = [(0, 1) + tuple(dice.sample(range(2, cards), cards - 2))]
-        if kind == "move":
-            return ("move", orders[0], dice.randrange(nodes))
-        return ("shuffle", tuple(sorted({tuple(range(cards)), *orders})), dice.randrange(nodes))
-
-    def way(self, dice):
-        bits = dice.choice((1, 1, 1, 2))
-        helps = tuple(dice.randrange(2) for _ in range(dice.randrange(4)))
-        many = dice.randrange(1, 7)
-        tells = dice.random() < 0.5
-        nodes = tuple(self.node(dice, 2 * bits + len(helps), many, tells) for _ in range(many))
-        return (bits, helps, nodes)
-
     def test_against_states(self):
         dice = random.Random(20261119)
         counts = {}
         for _ in range(6000):
-            way = self.way(dice)
+            way = small_way(dice)
             self.assertTrue(is_way(way), way)
-            wish = dice.choice((SAME, ZERO) if way[0] == 1 else (XOR, AND, ZERO * 2, ((0,), (0,), (1,), (1,))))
+            wish = small_wish(dice, way)
             fair = oracle.is_right(way, wish) and oracle.is_silent(way, wish)
             surely = oracle.ends(way)
             try:

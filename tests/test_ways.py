@@ -3,7 +3,10 @@
 import unittest
 
 from silentdecks.errors import BadInput, BadWay, BadWish, TooMany
+from silentdecks.finding import fewest_deeds, way_found
 from silentdecks.judging import ends_surely, is_sound, shows_sound, sound_table
+from silentdecks.running import hand, shuffles_passed
+from silentdecks.sights import best_guess, first_leak, first_wrong, mean_shuffles, mean_turns, sight_chance
 from silentdecks.texts import sample, written
 from silentdecks.ways import first_row, inputs, is_way
 from tests.builders import FLIP, LAY, ODD_VALUES, SAME, Subclass, moved_chain, one_bit
@@ -17,6 +20,14 @@ TAKERS = (
     lambda way: ends_surely(way, SAME),
     lambda way: sound_table(way, SAME),
     lambda way: shows_sound(way, SAME, ()),
+    lambda way: sight_chance(way, (0,), ()),
+    lambda way: first_leak(way, SAME, 2),
+    lambda way: first_wrong(way, SAME, 2),
+    lambda way: best_guess(way, (0,), (1,), 2),
+    lambda way: mean_turns(way, (0,)),
+    lambda way: mean_shuffles(way, (0,)),
+    lambda way: hand(way, (0,), (1, 2)),
+    lambda way: shuffles_passed(way, (0,), (1, 2)),
 )
 
 
@@ -213,12 +224,26 @@ class Inputs(unittest.TestCase):
         way = (2, (), (LAY,))
         for value in ODD_VALUES + ((0,), (0, 0, 0), (0, 2), (-1, 0), (True, 0), (0, False), (0.0, 1), ("0", "1"), [0, 1],
                                    "01", b"01", (0, None), (0, (1,)), ((0, 1),)):
-            with self.assertRaises(BadInput, msg=value):
-                first_row(way, value)
+            for taker in self.takers(way):
+                with self.assertRaises(BadInput, msg=value):
+                    taker(value)
+
+    def takers(self, way):
+        return (
+            lambda one: first_row(way, one),
+            lambda one: sight_chance(way, one, None),
+            lambda one: best_guess(way, one, None, 2),
+            lambda one: best_guess(way, (0,) * way[0], one, 2),
+            lambda one: mean_turns(way, one),
+            lambda one: mean_shuffles(way, one),
+            lambda one: hand(way, one, None),
+            lambda one: shuffles_passed(way, one, None),
+        )
 
     def test_the_way_is_looked_at_first(self):
-        with self.assertRaises(BadWay):
-            first_row((1, (), ()), (7,))
+        for taker in self.takers((1, (), ())):
+            with self.assertRaises(BadWay):
+                taker((7,))
 
 
 class Wishes(unittest.TestCase):
@@ -228,6 +253,10 @@ class Wishes(unittest.TestCase):
             lambda wish: ends_surely(way, wish),
             lambda wish: sound_table(way, wish),
             lambda wish: shows_sound(way, wish, None),
+            lambda wish: first_leak(way, wish, 1),
+            lambda wish: first_wrong(way, wish, 1),
+            lambda wish: way_found(way[0], way[1], wish, (), 0),
+            lambda wish: fewest_deeds(way[0], way[1], wish, ()),
         )
 
     def test_right_wishes(self):
@@ -250,6 +279,7 @@ class Wishes(unittest.TestCase):
                     taker(((0,),) * many)
 
     def test_the_way_is_looked_at_first(self):
-        for taker in self.takers((1, (), ())):
-            with self.assertRaises(BadWay):
+        for taker in self.takers((1, (2,), (LAY,))):
+            with self.assertRaises(BadWay) as caught:
                 taker(None)
+            self.assertEqual((caught.exception.word, caught.exception.node), ("helps", None))
