@@ -53,6 +53,7 @@ def best_guess(way, one, other, many):
     check_way(way)
     check_input(way, one)
     check_input(way, other)
+    check_many(many)
     # The greater one of two chances is half of what both come to and of the amount by which they differ.
     return added((1, 2), multiplied(distance(way, gap_of(way, one, other), many), 1, 4))
 
@@ -75,7 +76,12 @@ def check_watch(way, wish, many):
     """Raise the error of the first argument that is wrong."""
     check_way(way)
     check_wish(way[0], wish)
-    if not is_number(many, 0, MOST_SIGHTS):
+    check_many(many)
+
+
+def check_many(value):
+    """Raise BadNumber for a value that is no number of first turns that a watcher sees."""
+    if not is_number(value, 0, MOST_SIGHTS):
         raise BadNumber()
 
 

@@ -35,6 +35,9 @@ ODD_VALUES = (
     [(0,)], {"a": 1}, object(), int, lambda: 1, (1, 2), (1, 2, 3), ("move", (0, 1), 0), ([], {}, set()), (((((),),),),),
 )
 
+# Values that are no number of turns that a watcher sees.
+NO_NUMBERS = (7, 8, 30, 1000, 10 ** 30, -1, -7, True, False, None, 1.0, 6.0, "", "1", b"1", (), (1,), [1], {}, Subclass(7))
+
 
 def small_node(dice, cards, nodes, tells):
     """A node of a small way, in many ways one that leaves the bits where they lie."""

@@ -3,12 +3,12 @@
 import random
 import unittest
 
-from silentdecks.errors import BadInput, BadWay, TooMany
+from silentdecks.errors import BadInput, BadNumber, BadWay, TooMany
 from silentdecks.sights import best_guess, mean_shuffles, mean_turns
 from silentdecks.texts import sample
 from silentdecks.ways import inputs, is_way
 from tests import oracle, watching
-from tests.builders import FLIP, LAY, ODD_VALUES, lively_way, look, moved_chain, one_bit, small_way
+from tests.builders import FLIP, LAY, NO_NUMBERS, ODD_VALUES, lively_way, look, moved_chain, one_bit, small_way
 
 TELLS = (("tell", (0,)), ("tell", (1,)))
 SWAP = ("shuffle", ((0, 1), (1, 0)), 1)
@@ -22,10 +22,10 @@ class Guesses(unittest.TestCase):
 
     def test_samples(self):
         for name in ("double", "again"):
-            for many in range(8):
+            for many in range(7):
                 self.guess(sample(name)[0], many, (1, 2))
         self.guess(sample("look")[0], 0, (1, 2))
-        for many in range(1, 8):
+        for many in range(1, 7):
             self.guess(sample("look")[0], many, (1, 1))
         five = sample("five")[0]
         for many in range(4):
@@ -57,7 +57,7 @@ class Guesses(unittest.TestCase):
         self.guess(way, 2, (3, 4))
         self.guess(way, 3, (1, 1))
         self.guess(way, 4, (1, 1))
-        self.guess(way, 9, (1, 1))
+        self.guess(way, 6, (1, 1))
 
     def test_two_lay_nodes(self):
         way = one_bit(look(0, 1, 2), LAY, ("lay", ((0, 1),)))
@@ -94,13 +94,13 @@ class Guesses(unittest.TestCase):
         self.guess(one_bit(SWAP, look(0, 2, 3), ("move", (1, 0), 2), LAY), 2, (1, 2))
         self.guess(one_bit(SWAP, look(0, 2, 2), ("move", (1, 0), 2), LAY), 2, (1, 2))
 
-    def test_many_turns(self):
-        self.guess(sample("again")[0], 1000, (1, 2))
+    def test_up_to_six_turns(self):
+        self.guess(sample("again")[0], 6, (1, 2))
         way = one_bit(("shuffle", ((0, 1, 2), (0, 2, 1), (1, 0, 2)), 1), look(0, 2, 2), LAY, helps=(1,))
-        self.guess(way, 1000, (2, 3))
+        self.guess(way, 6, (2, 3))
         # The bit is seen as soon as the help is seen as 0 once, which each turn does with a chance of one half.
         way = one_bit(MIX, look(2, 2, 0), look(0, 3, 3), LAY, helps=(0, 1))
-        for many in (1, 2, 3, 6, 30):
+        for many in range(1, 7):
             self.guess(way, many, (2 ** many - 1, 2 ** many))
 
     def test_wrong_inputs(self):
@@ -110,11 +110,28 @@ class Guesses(unittest.TestCase):
             self.assertRaises(BadInput, best_guess, way, (0,), value, 1)
         self.assertRaises(BadWay, best_guess, (1, (), ()), None, None, 1)
 
+    def test_other_numbers_of_turns(self):
+        ways = [sample(name)[0] for name in ("five", "double", "again", "look")]
+        for way in ways + [one_bit(LAY), one_bit(("move", (1, 0), 0)), one_bit(look(0, 1, None), LAY)]:
+            one = inputs(way)[0]
+            for other in inputs(way):
+                for many in NO_NUMBERS:
+                    with self.assertRaises(BadNumber, msg=(way, other, many)):
+                        best_guess(way, one, other, many)
+                for many in range(7):
+                    best_guess(way, one, other, many)
+
+    def test_earlier_arguments_are_looked_at_first(self):
+        for many in NO_NUMBERS:
+            self.assertRaises(BadWay, best_guess, (1, (), ()), (0,), (1,), many)
+            self.assertRaises(BadInput, best_guess, one_bit(LAY), (2,), (1,), many)
+            self.assertRaises(BadInput, best_guess, one_bit(LAY), (0,), (0, 0), many)
+
     def test_against_every_row_of_sights(self):
         dice = random.Random(7)
         seen = {}
         for _ in range(2000):
-            way, many = dice.choice((small_way, lively_way))(dice), dice.choice((0, 1, 2, 3, 4, 5))
+            way, many = dice.choice((small_way, lively_way))(dice), dice.randrange(7)
             one, other = dice.choice(inputs(way)), dice.choice(inputs(way))
             ratio = best_guess(way, one, other, many)
             self.assertEqual(ratio, watching.best_guess(way, one, other, many), (way, one, other, many))

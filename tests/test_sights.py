@@ -11,13 +11,12 @@ from silentdecks.texts import sample
 from silentdecks.ways import inputs
 from tests import oracle, watching
 from tests.builders import (
-    FLIP, LAY, ODD_VALUES, SAME, ZERO, lively_way, look, moved_chain, one_bit, small_way, small_wish,
+    FLIP, LAY, NO_NUMBERS, ODD_VALUES, SAME, ZERO, lively_way, look, moved_chain, one_bit, small_way, small_wish,
 )
 
 TELLS = (("tell", (0,)), ("tell", (1,)))
 XOR = ((0,), (1,), (1,), (0,))
 SWAP = ("shuffle", ((0, 1), (1, 0)), 1)
-NO_NUMBERS = (7, -1, True, False, None, 1.0, "1", (), (1,), 10 ** 30)
 
 
 class Chances(unittest.TestCase):
